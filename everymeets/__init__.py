@@ -1,0 +1,1 @@
+"""Everymeets: rounds in which each team meets each other one just once."""
