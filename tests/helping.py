@@ -4,7 +4,10 @@ import faulthandler
 import random
 import signal
 import sys
+import unittest
 from contextlib import contextmanager
+
+from everymeets.errors import MeetError
 
 FORTY_FIGURES = (
     10 ** 39,
@@ -71,6 +74,18 @@ def no_numbers():
     ]
 
 
+def no_counts():
+    """What is no count of teams."""
+    numbers = [0, 1, -1, -2, -4, 3, 5, 7, 21, 101, 10 ** 40 + 1, -(10 ** 40), 2 ** 20000 + 1]
+    return no_numbers() + [("number at " + str(at), one) for at, one in enumerate(numbers)]
+
+
+def outside(bound):
+    """What is no number from 0 to below bound."""
+    numbers = [-1, -2, -bound, bound, bound + 1, 2 * bound, 10 * bound ** 2, -(10 ** 40)]
+    return no_numbers() + [("number at " + str(at), one) for at, one in enumerate(numbers)]
+
+
 @contextmanager
 def at_once(seconds=20):
     """Fail if what stands inside is not done within some seconds."""
@@ -97,3 +112,16 @@ def drawn(bound, many, seed):
     picked = [0, 1, 2, 3, half - 1, half, half + 1, bound - 3, bound - 2, bound - 1]
     picked += [source.randrange(bound) for _ in range(many)]
     return [number for number in dict.fromkeys(picked) if 0 <= number < bound]
+
+
+class RefusalCase(unittest.TestCase):
+    def refused(self, kind, function, *given):
+        """Check that just this class is told, at once."""
+        with at_once():
+            try:
+                function(*given)
+            except MeetError as told:
+                found = type(told)
+            else:
+                found = None
+        self.assertIs(found, kind, function.__name__)

@@ -9,10 +9,10 @@ import unittest
 import weakref
 
 import everymeets
-from everymeets import errors, plans
+from everymeets import plans
 from everymeets.errors import Alike, BadRound, BadTeam, BadTeams
 from everymeets.plans import at_home, break_of, opponent, round_of
-from tests.helping import FORTY_FIGURES, HUGE, at_once, no_numbers
+from tests.helping import FORTY_FIGURES, HUGE, RefusalCase, at_once, no_counts, no_numbers, outside
 
 PARAMETERS = {
     "opponent": ["teams", "team", "number"],
@@ -23,30 +23,6 @@ PARAMETERS = {
 # Each with what stands well behind the count of teams.
 CALLS = [(opponent, (0, 0)), (at_home, (0, 0)), (round_of, (0, 1)), (break_of, (0,))]
 OF_ROUNDS = [opponent, at_home]
-
-
-def no_counts():
-    numbers = [0, 1, -1, -2, -4, 3, 5, 7, 21, 101, 10 ** 40 + 1, -(10 ** 40), 2 ** 20000 + 1]
-    return no_numbers() + [("number at " + str(at), one) for at, one in enumerate(numbers)]
-
-
-def outside(bound):
-    """What is no number from 0 to below bound."""
-    numbers = [-1, -2, -bound, bound, bound + 1, 2 * bound, 10 * bound ** 2, -(10 ** 40)]
-    return no_numbers() + [("number at " + str(at), one) for at, one in enumerate(numbers)]
-
-
-class RefusalCase(unittest.TestCase):
-    def refused(self, kind, function, *given):
-        """Check that just this class is told, at once."""
-        with at_once():
-            try:
-                function(*given)
-            except errors.MeetError as told:
-                found = type(told)
-            else:
-                found = None
-        self.assertIs(found, kind, function.__name__)
 
 
 class CountTest(RefusalCase):
